@@ -1,0 +1,1 @@
+"""Solids whose faces keep their names."""
