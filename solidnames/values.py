@@ -25,3 +25,16 @@ def is_name(value):
 
 def is_parameter_name(value):
     return is_name(value) and value not in RESERVED
+
+
+def is_point(value):
+    if not isinstance(value, tuple) or len(value) != 3:
+        return False
+    return all([is_integer(number) for number in value])
+
+
+def is_box(value):
+    """Two points within the limits, the first one less on each axis."""
+    if not isinstance(value, tuple) or len(value) != 2 or not is_point(value[0]) or not is_point(value[1]):
+        return False
+    return all([-LIMIT <= low < high <= LIMIT for low, high in zip(value[0], value[1])])
