@@ -81,7 +81,7 @@ def is_flat_cell(value):
 
 def is_level(index):
     """Whether the side with this index in an outline is level."""
-    return index // 2 * 2 == index
+    return index % 2 == 0
 
 
 def ends_of(outlines, positions):
@@ -90,7 +90,7 @@ def ends_of(outlines, positions):
     for outline in outlines:
         for index, side in enumerate(outline):
             before = positions[outline[index - 1]]
-            after = positions[outline[index + 1 - len(outline)]]
+            after = positions[outline[(index + 1) % len(outline)]]
             low, high, place = min(before, after), max(before, after), positions[side]
             ends[side] = ((low, place), (high, place)) if is_level(index) else ((place, low), (place, high))
     return ends

@@ -85,7 +85,7 @@ def levels_of(outlines):
 
 
 def is_outline(value):
-    if not is_list(value) or len(value) < LEAST_SIDES or len(value) // 2 * 2 != len(value):
+    if not is_list(value) or len(value) < LEAST_SIDES or len(value) % 2 != 0:
         return False
     return all([is_name(side) for side in value])
 
