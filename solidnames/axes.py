@@ -5,13 +5,14 @@ from solidnames.values import is_integer, is_within
 
 AXES = ("x", "y", "z")
 SIDES = ("-x", "+x", "-y", "+y", "-z", "+z")
+PLACES = {"x": 0, "y": 1, "z": 2}
 
 
 def axis_index(axis):
     """The place of the axis in a point; InvalidAxis for any value that is no axis."""
     if axis not in AXES:
         raise InvalidAxis(axis)
-    return AXES.index(axis)
+    return PLACES[axis]
 
 
 def replaced(point, index, number):

@@ -44,7 +44,7 @@ class Marked:
         """The origin of the square on this side of a cell of the solid."""
         if not is_point(cell) or side not in SIDES:
             raise NotSurface(cell, side)
-        axis = SIDES.index(side) // 2
+        axis = axis_index(side[1])
         step = 1 if side[0] == "+" else -1
         inside = block_of(self.coordinates, cell)
         outside = block_of(self.coordinates, replaced(cell, axis, cell[axis] + step))

@@ -62,7 +62,7 @@ class Plane:
 
 def direction_indexes(axis):
     """The places in a point of the two directions of a plane across the axis."""
-    index = AXES.index(axis)
+    index = axis_index(axis)
     return ((index + 1) % 3, (index + 2) % 3)
 
 
@@ -82,7 +82,7 @@ def prism(plane, shape, distance, name):
 
 def prism_between(axis, shape, ends, caps, side_prefix):
     """The prism over a shape between two coordinates; caps has the origin at the lower end of each of its strips."""
-    index = AXES.index(axis)
+    index = axis_index(axis)
     first, second = direction_indexes(axis)
     breaks = breaks_of(shape)
     lines = [ends, ends, ends]

@@ -261,6 +261,7 @@ class FormTest(unittest.TestCase):
             functions.setdefault(owner if node.name == "__init__" else node.name, []).append(node)
         todo = [node for _, node in nodes(ast.FunctionDef)
                 if node.decorator_list or node.name in OPERATORS | {"__eq__", "__len__"}]
+        stored = {node.attr for _, node in nodes(ast.Attribute) if isinstance(node.ctx, ast.Store)}
         seen = set()
         while todo:
             node = todo.pop()
@@ -272,6 +273,9 @@ class FormTest(unittest.TestCase):
                 if isinstance(call, ast.Call):
                     name = call.func.attr if isinstance(call.func, ast.Attribute) else getattr(call.func, "id", None)
                     todo.extend(functions.get(name, []))
+                    # Of a name that is an attribute, too, nobody knows what is called.
+                    if isinstance(call.func, ast.Attribute):
+                        self.assertNotIn(name, stored, f"{node.name}:{node.lineno}")
 
     def check_changes_nothing(self, function):
         created, place = set(), f"{function.name}:{function.lineno}"
