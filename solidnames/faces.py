@@ -1,12 +1,14 @@
 """Faces: the largest pieces of the surface with one origin, in one plane."""
 
-from solidnames.axes import axis_index, replaced
+from solidnames.axes import AXES, axis_index, replaced
+from solidnames.planes import direction_indexes
 from solidnames.skins import Skin
 from solidnames.solids import Solid
+from solidnames.walks import outlines_of
 
 
 class Face:
-    """A face of a marked solid, from its skin."""
+    """A face of a marked solid, from its skin; outlines are those on its plane."""
 
     def __init__(self, skin, index):
         panels = skin.groups[index]
@@ -18,6 +20,7 @@ class Face:
         boxes = layer_boxes(skin, panels)
         self.layer = Solid(*boxes)
         self._area = self.layer.volume
+        self.outlines = outlines_on_plane(skin, index)
 
     @property
     def at(self):
@@ -30,7 +33,7 @@ class Face:
 
     def __eq__(self, other):
         return (isinstance(other, Face) and self.name == other.name and self.side == other.side
-                and self.layer == other.layer)
+                and self.layer == other.layer and self.outlines == other.outlines)
 
 
 def faces(marked):
@@ -53,3 +56,20 @@ def layer_boxes(skin, panels):
             high = replaced(high, index, high[index] + 1)
         boxes.append((low, high))
     return boxes
+
+
+def outlines_on_plane(skin, index):
+    """The outer outline of a face and the tuple of the others; each border has the origin of the face that it meets."""
+    first, second = direction_indexes(skin.side_of(skin.groups[index][0])[1])
+    sides = {f"-{AXES[second]}": 0, f"+{AXES[first]}": 1, f"+{AXES[second]}": 2, f"-{AXES[first]}": 3}
+    cells = []
+    origins = {}
+    for panel in skin.groups[index]:
+        strips = skin.strips_of(skin.split_panel(panel)[1])
+        # The strip 1 begins at the coordinate with the index 0.
+        cell = (strips[first] - 1, strips[second] - 1)
+        cells.append(cell)
+        for side, (other, _) in skin.beside[panel].items():
+            if skin.owners[other] != index:
+                origins[(*cell, sides[side])] = skin.labels[other]
+    return outlines_of(cells, (skin.coordinates[first], skin.coordinates[second]), origins)

@@ -99,8 +99,7 @@ class Marked:
         """The same with this name and a slash in front of each origin."""
         if not is_name(name):
             raise InvalidName(name)
-        squares = [[None if origin is None else f"{name}/{origin}" for origin in labels] for labels in self.squares]
-        return Marked(self.coordinates, self.filled, squares)
+        return prefixed(self, f"{name}/")
 
 
 def block(box, name):
@@ -111,6 +110,12 @@ def block(box, name):
         raise InvalidName(name)
     lines, filled = painted([box])
     return Marked(lines, filled, box_squares([f"{name}/{side}" for side in SIDES]))
+
+
+def prefixed(marked, prefix):
+    """The same with this text in front of each origin."""
+    squares = [[None if origin is None else prefix + origin for origin in labels] for labels in marked.squares]
+    return Marked(marked.coordinates, marked.filled, squares)
 
 
 def nothing():

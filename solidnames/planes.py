@@ -81,8 +81,12 @@ def prism(plane, shape, distance, name):
 
 
 def prism_between(axis, shape, ends, caps, side_prefix):
-    """The prism over a shape between two coordinates; caps has the origin at the lower end of each of its strips."""
+    """The prism over a shape between two coordinates, or without an end if ends is empty.
+
+    Caps has the origin at the lower end of each of the strips along the axis.
+    """
     index = axis_index(axis)
+    inner = 1 if ends else 0
     first, second = direction_indexes(axis)
     breaks = breaks_of(shape)
     lines = [ends, ends, ends]
@@ -94,10 +98,10 @@ def prism_between(axis, shape, ends, caps, side_prefix):
             for z in range(len(lines[2]) + 1):
                 strips = (x, y, z)
                 flat, strip = (strips[first], strips[second]), strips[index]
-                filled.append(strip == 1 and inside[flat])
+                filled.append(strip == inner and inside[flat])
                 squares[index].append(caps[strip] if inside[flat] else None)
-                squares[first].append(uprights[flat] if strip == 1 else None)
-                squares[second].append(levels[flat] if strip == 1 else None)
+                squares[first].append(uprights[flat] if strip == inner else None)
+                squares[second].append(levels[flat] if strip == inner else None)
     return Marked(tuple(lines), filled, squares)
 
 

@@ -20,12 +20,13 @@ SPECIAL = OPERATORS | {"__init__", "__eq__", "__repr__", "__str__", "__len__", "
 STATEMENTS = (
     ast.Assign, ast.AugAssign, ast.If, ast.While, ast.For, ast.Return, ast.Break, ast.Continue, ast.Pass, ast.Raise, ast.Assert,
     ast.Delete, ast.Nonlocal, ast.Try, ast.Expr, ast.FunctionDef, ast.ClassDef, ast.ImportFrom)
-NOT_EXPRESSIONS = (ast.Await, ast.Yield, ast.YieldFrom, ast.GeneratorExp, ast.Set, ast.SetComp, ast.NamedExpr)
+NOT_EXPRESSIONS = (ast.Await, ast.YieldFrom, ast.GeneratorExp, ast.Set, ast.SetComp, ast.NamedExpr)
 WORDS_NOWHERE = set("""type typing enum Enum IntEnum StrEnum Flag IntFlag Generic Protocol ABC ABCMeta namedtuple NamedTuple
     TypedDict TYPE_CHECKING abstractmethod""".split())
 NAMES_NOWHERE = set("register mro elements open input law version_info with_traceback add_note".split())
 ATTRIBUTES_NOWHERE = set("""items keys values pop update append clear extend insert remove reverse setdefault sort args
     encode decode hex fromhex format format_map""".split())
+LIBRARY = {"math": {"gcd", "lcm", "isqrt", "comb", "perm", "factorial"}}
 VIEWS = {"zip", "enumerate", "reversed", "range"}
 ITERATING = {"list", "tuple", "dict", "sorted", "sum", "any", "all", "enumerate", "zip", "min", "max"}
 
@@ -64,6 +65,8 @@ def is_plain(node):
         return all(is_plain(item) for item in node.elts)
     if isinstance(node, ast.Dict):
         return all(is_plain(item) for item in node.keys + node.values)
+    if isinstance(node, ast.UnaryOp):
+        return isinstance(node.op, ast.USub) and is_plain(node.operand)
     return isinstance(node, ast.BinOp) and is_plain(node.left) and is_plain(node.right)
 
 
@@ -90,6 +93,9 @@ class FormTest(unittest.TestCase):
         reads = {name: set() for name in trees}
         for place, node in nodes(ast.Import, ast.ImportFrom):
             self.assertIsInstance(node, ast.ImportFrom, place)
+            if node.module in LIBRARY:
+                self.assertLessEqual({part.name for part in node.names}, LIBRARY[node.module], place)
+                continue
             self.assertEqual(node.level, 0, place)
             self.assertRegex(node.module, r"^solidnames\.[a-z]+$", place)
             file = node.module.split(".")[1] + ".py"
@@ -138,7 +144,9 @@ class FormTest(unittest.TestCase):
         for place, node in nodes(*NOT_EXPRESSIONS):
             self.fail(f"{place}: {node}")
         for place, node in nodes(ast.Expr):
-            self.assertIsInstance(node.value, (ast.Call, ast.Constant), place)
+            self.assertIsInstance(node.value, (ast.Call, ast.Constant, ast.Yield), place)
+        for place, node in nodes(ast.Yield):
+            self.assertIsInstance(node.parent, ast.Expr, place)
         for place, node in nodes(ast.BinOp, ast.AugAssign):
             self.assertNotIsInstance(node.op, (ast.Div, ast.MatMult), place)
         for place, node in nodes(ast.Constant):
@@ -164,6 +172,25 @@ class FormTest(unittest.TestCase):
             self.assertEqual(len(methods), len(set(methods)), place)
             if "__getitem__" in methods:
                 self.assertIn("__iter__", methods, place)
+
+    def test_generators(self):
+        """Each has a name of its own, and its calls are iterated at once."""
+        names = [node.name for _, node in nodes(ast.FunctionDef)]
+        generators = set()
+        for place, node in nodes(ast.Yield):
+            while not isinstance(node, ast.FunctionDef):
+                self.assertNotIsInstance(node, (ast.Try, ast.With), place)
+                node = node.parent
+            generators.add(node.name)
+        for name in generators:
+            self.assertEqual(names.count(name), 1, name)
+        for place, node in nodes(ast.Call):
+            name = node.func.attr if isinstance(node.func, ast.Attribute) else getattr(node.func, "id", None)
+            if name in generators:
+                parent = node.parent
+                iterated = isinstance(parent, (ast.For, ast.comprehension)) and parent.iter is node
+                called = isinstance(parent, ast.Call) and isinstance(parent.func, ast.Name) and parent.func.id in ITERATING
+                self.assertTrue(iterated or called, place)
 
     def test_names(self):
         for place, node in nodes(ast.Name, ast.arg, ast.FunctionDef, ast.ClassDef, ast.Attribute, ast.keyword):
