@@ -153,6 +153,23 @@ class FaceTest(unittest.TestCase):
         self.assertNotEqual(faces(high)[2], faces(turned_over)[2])
         self.assertEqual([face.layer for face in faces(high)], [face.layer for face in faces(turned_over)])
 
+    def test_equality_of_single_values(self):
+        one = block(((0, 0, 0), (2, 2, 2)), "a")
+        twins = one.joined(one.moved(0, 0, 9))
+        for call in (faces, edges, corners):
+            # The same places, but other names: there are two of each now.
+            self.assertEqual([item == other for item in call(one) for other in call(twins)].count(True), 0)
+        # The same names, but only the ends or only the starts of some edges are the same.
+        names = {edge.name for edge in edges(one)}
+        for other in (block(((0, 0, 0), (2, 2, 3)), "a"), block(((0, 0, -1), (2, 2, 2)), "a")):
+            self.assertEqual({edge.name for edge in edges(other)}, names)
+            tall = [edge for edge in edges(other) if edge.start[2] != edge.end[2]]
+            self.assertEqual([edge == item for edge in tall for item in edges(one)].count(True), 0)
+        # The same name and cells, another side.
+        sides = [face.side for face in faces(one)]
+        turned_over = [face.side for face in faces(one.mirrored("x", 1))]
+        self.assertNotEqual(sides, turned_over)
+
     def test_returned_lists_are_new(self):
         pad = block(((0, 0, 0), (2, 2, 2)), "a")
         for call in (faces, edges, corners):

@@ -86,6 +86,13 @@ class ObjectTest(unittest.TestCase):
         self.assertNotEqual(Copy("a", "b", ("x", "1", "2")), Copy("a", "b", ("x", "1", "3")))
 
 
+    def test_equality_in_the_base_class(self):
+        one = Feature("keep", ("a", "x", "1", 1), ["1"])
+        self.assertEqual(one, Feature("keep", ("a", "x", "1", 1), ["1"]))
+        for other in (Feature("push", ("a", "x", "1", 1), ["1"]), Feature("keep", ("b", "x", "1", 1), ["1"]), "keep", None):
+            self.assertFalse(one == other)
+
+
 class WrongTest(unittest.TestCase):
     """InvalidFeature(part) for the first argument that is not as told."""
 
