@@ -306,7 +306,7 @@ class StatusTest(unittest.TestCase):
         for kind in (Add, Cut):
             for plane, extent in [(("flat", "x", "0"), TOP), (("flat", "z", "2"), TOP), (("flat", "z", "0"), BOTTOM), (("on", TOP, "0"), TOP),
                                   (("on", BOTTOM, "-2"), TOP), (("on", EAST, "-4"), WEST), (("on", EAST, "0"), TOP),
-                                  (("flat", "y", f"{LIMIT}"), EAST)]:
+                                  (("flat", "y", f"{LIMIT}"), EAST), (("on", TOP, f"{LIMIT}"), EAST)]:
                 self.assertEqual(last(BASE, kind("a", SQUARE, plane, ("to", extent))), ("failed", "target", None))
             for plane, extent in [(("flat", "z", "3"), TOP), (("flat", "z", "0"), TOP), (("on", TOP, "1"), TOP), (("on", BOTTOM, "0"), TOP)]:
                 self.assertEqual(last(BASE, kind("a", SQUARE, plane, ("to", extent))), ("ok",))
@@ -415,6 +415,23 @@ class StatusTest(unittest.TestCase):
         for record in records[1:6]:
             self.assertEqual([record.told[0], record.before, record.behind], ["failed", records[0].behind, records[0].behind])
         self.assertEqual([records[6].told, records[6].behind.to_solid().volume], [("ok",), 48])
+
+    def test_several_causes(self):
+        """Each cause is told before those behind it in the list."""
+        far = f"{LIMIT}"
+        for sketch, plane, extent, told in [
+                (sketch_of(e="0"), ("on", LOST, "1 // 0"), ("by", "0"), ("sketch", ("crossing", "e", "w"))),
+                (SQUARE, ("on", LOST, "1 // 0"), ("by", "0"), ("value", "zero")), (SQUARE, ("on", LOST, far), ("by", "0"), ("pick", ("lost",))),
+                (SQUARE, ("on", TOP, far), ("by", "0"), ("distance", 0)), (SQUARE, ("on", TOP, far), ("to", EAST), ("target", None)),
+                (SQUARE, ("on", TOP, far), ("by", "1"), ("range", None))]:
+            for kind in (Add, Cut):
+                feature = kind("a", sketch, plane, extent)
+                self.assertEqual(last(BASE, feature), ("failed", *told))
+                self.assertEqual(records_of({}, [(BASE, True), (feature, False)])[1].told, ("off",))
+        row = Copy("row", "peg", ("x", "6", "10"))
+        peg = Add("peg", sketch_of(e="3"), ("flat", "z", "0"), ("by", "1"))
+        self.assertEqual(last(peg, row, Add("a", SQUARE, ("flat", "z", far), ("by", "1"), ("90", "0"))), ("failed", "range", None))
+        self.assertEqual(last(peg, row, Add("a", SQUARE, ("flat", "z", far), ("back", "1"), ("90", "0"))), ("failed", "lines", None))
 
     def test_without_features(self):
         self.assertEqual(records_of({}, []), ())
