@@ -71,5 +71,6 @@ def outlines_on_plane(skin, index):
         cells.append(cell)
         for side, (other, _) in skin.beside[panel].items():
             if skin.owners[other] != index:
-                origins[(*cell, sides[side])] = skin.labels[other]
+                border = (*cell, sides[side])
+                origins[border] = skin.labels[other]
     return outlines_of(cells, (skin.coordinates[first], skin.coordinates[second]), origins)

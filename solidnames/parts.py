@@ -33,15 +33,15 @@ class Result:
                 and self._statuses == other._statuses and self._behind == other._behind)
 
     def status(self, name):
-        return self._record(name).told
+        return self._told_by(name).told
 
     def ahead(self, name):
         """The Marked ahead of a feature."""
-        return self._record(name).before
+        return self._told_by(name).before
 
     def outcomes(self, name):
         """What the picks of a feature mean ahead of it."""
-        record = self._record(name)
+        record = self._told_by(name)
         if not record.feature.picks:
             return ()
         skin = Skin(record.before)
@@ -51,7 +51,7 @@ class Result:
         """What a pick means behind all features."""
         return resolve(self.marked, pick)
 
-    def _record(self, name):
+    def _told_by(self, name):
         for record in self.records:
             if record.feature.name == name:
                 return record

@@ -26,6 +26,9 @@ WORDS_NOWHERE = set("""type typing enum Enum IntEnum StrEnum Flag IntFlag Generi
 NAMES_NOWHERE = set("register mro elements open input law version_info with_traceback add_note".split())
 ATTRIBUTES_NOWHERE = set("""items keys values pop update append clear extend insert remove reverse setdefault sort args
     encode decode hex fromhex format format_map""".split())
+# L12: barred, also with digits or underscores behind them; and what no name begins with.
+NAMES_BARRED = "_cold _tuplegetter _outside _record _written_out _member_names".split()
+BEGINNINGS_BARRED = ("_pe_", "_dcw_", "_enum_", "_cm_", "_twin_re_", "_lay_", "_law_", "_stub_", "_sre", "_WallAttr")
 LIBRARY = {"math": {"gcd", "lcm", "isqrt", "comb", "perm", "factorial"}}
 VIEWS = {"zip", "enumerate", "reversed", "range"}
 ITERATING = {"list", "tuple", "dict", "sorted", "sum", "any", "all", "enumerate", "zip", "min", "max"}
@@ -54,6 +57,28 @@ def nodes(*kinds):
                 yield f"{name}:{getattr(node, 'lineno', 0)}", node
 
 
+def names_in(tree):
+    """Tuples (row, name) of all that is bound, read or called by name in a tree."""
+    for node in ast.walk(tree):
+        found = []
+        for field in ("id", "attr", "arg", "name", "asname", "rest", "names"):
+            value = getattr(node, field, None)
+            found += value if isinstance(value, list) else [value]
+        yield from ((getattr(node, "lineno", 0), name) for name in found if isinstance(name, str))
+
+
+def barred_names(tree):
+    """The tuples of names that L12 bars."""
+    return [(row, name) for row, name in names_in(tree)
+            if name.rstrip("0123456789_") in NAMES_BARRED or name.startswith(BEGINNINGS_BARRED)]
+
+
+def stars_in_indexes(tree):
+    """The rows of indexes with a star in them."""
+    return [node.lineno for node in ast.walk(tree) if isinstance(node, ast.Subscript)
+            and any(isinstance(part, ast.Starred) for part in ast.walk(node.slice))]
+
+
 def own_methods():
     return {node.name for _, node in nodes(ast.FunctionDef) if isinstance(node.parent, ast.ClassDef)}
 
@@ -80,7 +105,7 @@ class FormTest(unittest.TestCase):
             lines = text.split("\n")
             self.assertLessEqual(len(lines), 399, name)
             self.assertLessEqual(max(len(line) for line in lines), 120, name)
-            self.assertNotIn("_wall" + " ", text)
+            self.assertIsNone(re.search(r"\b(_wall|_WallAttr)\b", text), name)
             for line in lines:
                 self.assertEqual(line, line.rstrip(), name)
 
@@ -200,6 +225,23 @@ class FormTest(unittest.TestCase):
             self.assertRegex(name, r"^(_|_?[A-Za-z][A-Za-z0-9_]*)$", place)
             self.assertNotIn(name, NAMES_NOWHERE, place)
             self.assertFalse(keyword.issoftkeyword(name) and name != "_", place)
+
+    def test_barred_names(self):
+        for name, tree in parsed():
+            self.assertEqual(barred_names(tree), [], name)
+        for text in ["_record = 1", "x._outside", "def f(_cold): pass", "def _record_2(): pass", "class A:\n def _member_names(self): pass",
+                     "from a import _record1", "f(_written_out=1)", "try: pass\nexcept E as _tuplegetter_: pass", "_sre_x = 1", "x._law_y"]:
+            self.assertEqual(len(barred_names(ast.parse(text))), 1, text)
+        for text in ["record = _recorded = 1", "x.outside", "x._records", "x._colder", "_laws = 1"]:
+            self.assertEqual(barred_names(ast.parse(text)), [], text)
+
+    def test_stars_in_indexes(self):
+        for name, tree in parsed():
+            self.assertEqual(stars_in_indexes(tree), [], name)
+        for text in ["d[(*a, 1)]", "d[*a]", "d[(*a, 1)] = 2", "d[1, [*a]]", "d[f(*a)]", "del d[(1, *a)]"]:
+            self.assertEqual(stars_in_indexes(ast.parse(text)), [1], text)
+        for text in ["d[a, 1]", "[*a, d[1]]", "f(*d[1])", "k = (*a, 1)\nd[k] = 1"]:
+            self.assertEqual(stars_in_indexes(ast.parse(text)), [], text)
 
     def test_locals(self):
         for name, tree in parsed():
