@@ -22,6 +22,17 @@ def strip_of(coordinates, number):
     return len([line for line in coordinates if line <= number])
 
 
+def strips_at(lines, place):
+    """The strip on each axis of the block at this place."""
+    across, depth, _ = strides(lines)
+    return (place // across, place % across // depth, place % depth)
+
+
+def corner_at(lines, place):
+    """The least point of the block at this place, which is no block of a strip 0."""
+    return tuple([line[strip - 1] for line, strip in zip(lines, strips_at(lines, place))])
+
+
 def block_of(lines, cell):
     """The place of the block that has the cell."""
     places = [strip_of(lines[axis], cell[axis]) * stride for axis, stride in enumerate(strides(lines))]
@@ -110,7 +121,6 @@ def groups(lines, wanted):
 
 def boxes_at(lines, places):
     """The boxes of blocks at ascending places, none of them an outermost one; joined along z."""
-    across, depth, _ = strides(lines)
     boxes = []
     index = 0
     while index < len(places):
@@ -119,9 +129,8 @@ def boxes_at(lines, places):
         while index + 1 < len(places) and places[index + 1] == last + 1:
             index, last = index + 1, last + 1
         index += 1
-        x, y, z = first // across, first // depth % (len(lines[1]) + 1), first % depth
-        low = (lines[0][x - 1], lines[1][y - 1], lines[2][z - 1])
-        boxes.append((low, (lines[0][x], lines[1][y], lines[2][z + last - first])))
+        x, y, z = strips_at(lines, first)
+        boxes.append((corner_at(lines, first), (lines[0][x], lines[1][y], lines[2][z + last - first])))
     return boxes
 
 
@@ -156,14 +165,17 @@ def simplified(lines, filled):
     return tuple(kept), tuple(spread(lines, filled, kept))
 
 
+def square_areas(lines, axis):
+    """The areas of the squares along the axis, 0 in the outermost strips of the others."""
+    widths = [[1 for _ in range(len(line) + 1)] if other == axis else lengths(line) for other, line in enumerate(lines)]
+    return [x * y * z for x in widths[0] for y in widths[1] for z in widths[2]]
+
+
 def surface_area(lines, filled):
     """The area between filled blocks and others."""
     total = 0
     for axis, stride in enumerate(strides(lines)):
-        # Across the axis a square is as wide as its strips; nothing is filled in the outermost ones.
-        widths = [[1 for _ in range(len(line) + 1)] if other == axis else lengths(line)
-                  for other, line in enumerate(lines)]
-        areas = [x * y * z for x in widths[0] for y in widths[1] for z in widths[2]]
+        areas = square_areas(lines, axis)
         total = total + sum([area for area, one, other in zip(areas, filled, below(filled, stride)) if one != other])
     return total
 

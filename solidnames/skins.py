@@ -5,7 +5,7 @@ number is its place in the labels of all axes, those of x first, then those of y
 """
 
 from solidnames.axes import AXES, SIDES
-from solidnames.grids import strides
+from solidnames.grids import corner_at, strides, strips_at
 
 # Around a segment lie a block, those below it along the first and along the second of the axes
 # across, and the one below it along both. They count 1, 2, 4 and 8 if they are filled. The panels
@@ -39,13 +39,11 @@ class Skin:
 
     def strips_of(self, place):
         """The strip on each axis of the block at this place."""
-        across, depth, _ = strides(self.coordinates)
-        return (place // across, place % across // depth, place % depth)
+        return strips_at(self.coordinates, place)
 
     def corner_of(self, place):
         """The least point of the block at this place."""
-        strips = self.strips_of(place)
-        return tuple([self.coordinates[axis][strips[axis] - 1] for axis in (0, 1, 2)])
+        return corner_at(self.coordinates, place)
 
     def split_panel(self, panel):
         """The index of the axis of a panel and the place of its block."""

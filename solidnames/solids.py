@@ -8,7 +8,7 @@ from solidnames.values import is_box, is_point
 
 
 class Solid:
-    """The cells of all boxes together."""
+    """The cells of all boxes together, as blocks between coordinates that are filled or not (see grids)."""
 
     def __init__(self, *boxes):
         for box in boxes:
@@ -16,10 +16,10 @@ class Solid:
                 raise InvalidBox(box)
         lines, filled = painted(boxes)
         # With the lines of the surface alone, equal solids have equal lines and blocks.
-        self._lines, self._filled = simplified(lines, filled)
-        if max([len(line) for line in self._lines]) > LINES:
+        self.coordinates, self.filled = simplified(lines, filled)
+        if max([len(line) for line in self.coordinates]) > LINES:
             raise TooMany(LINES)
-        self._boxes = tuple(boxes_of(self._lines, self._filled))
+        self._boxes = tuple(boxes_of(self.coordinates, self.filled))
 
     @property
     def volume(self):
@@ -29,49 +29,49 @@ class Solid:
     @property
     def area(self):
         """The number of pairs of a cell and a neighbor outside."""
-        return surface_area(self._lines, self._filled)
+        return surface_area(self.coordinates, self.filled)
 
     @property
     def bounds(self):
         """The least box that has all cells, None without cells."""
         if not self._boxes:
             return None
-        return (tuple([line[0] for line in self._lines]), tuple([line[-1] for line in self._lines]))
+        return (tuple([line[0] for line in self.coordinates]), tuple([line[-1] for line in self.coordinates]))
 
     def __bool__(self):
         return bool(self._boxes)
 
     def __contains__(self, cell):
-        return is_point(cell) and self._filled[block_of(self._lines, cell)]
+        return is_point(cell) and self.filled[block_of(self.coordinates, cell)]
 
     def __eq__(self, other):
-        return isinstance(other, Solid) and self._lines == other._lines and self._filled == other._filled
+        return isinstance(other, Solid) and self.coordinates == other.coordinates and self.filled == other.filled
 
     def __or__(self, other):
-        lines = merged(self._lines, other._lines)
+        lines = merged(self.coordinates, other.coordinates)
         filled = [one or another for one, another in zip(self._spread(lines), other._spread(lines))]
         boxes = boxes_of(lines, filled)
         return Solid(*boxes)
 
     def __sub__(self, other):
-        lines = merged(self._lines, other._lines)
+        lines = merged(self.coordinates, other.coordinates)
         filled = [one and not another for one, another in zip(self._spread(lines), other._spread(lines))]
         boxes = boxes_of(lines, filled)
         return Solid(*boxes)
 
     def __and__(self, other):
-        lines = merged(self._lines, other._lines)
+        lines = merged(self.coordinates, other.coordinates)
         filled = [one and another for one, another in zip(self._spread(lines), other._spread(lines))]
         boxes = boxes_of(lines, filled)
         return Solid(*boxes)
 
     def _spread(self, lines):
         """For each block between other lines, among them its own, whether it has it."""
-        return spread(self._lines, self._filled, lines)
+        return spread(self.coordinates, self.filled, lines)
 
     def lines(self, axis):
         """The coordinates at which the surface has squares across the axis."""
-        return self._lines[axis_index(axis)]
+        return self.coordinates[axis_index(axis)]
 
     def boxes(self):
         """Boxes without common cells that have all cells."""
@@ -79,11 +79,11 @@ class Solid:
 
     def bodies(self):
         """The bodies as Solids, by their least cells."""
-        return self._parts(groups(self._lines, self._filled))
+        return self._parts(groups(self.coordinates, self.filled))
 
     def hollows(self):
         """The finite bodies outside as Solids, by their least cells."""
-        outside = groups(self._lines, [not flag for flag in self._filled])
+        outside = groups(self.coordinates, [not flag for flag in self.filled])
         # The first one has the outermost blocks.
         return self._parts(outside[1:])
 
@@ -91,13 +91,13 @@ class Solid:
         """The Solids of lists of places of blocks."""
         solids = []
         for places in parts:
-            boxes = boxes_at(self._lines, places)
+            boxes = boxes_at(self.coordinates, places)
             solids.append(Solid(*boxes))
         return solids
 
     def moved(self, x, y, z):
         check_integers(x, y, z)
-        check_bounds(moved_lines(self._lines, (x, y, z)))
+        check_bounds(moved_lines(self.coordinates, (x, y, z)))
         boxes = [((low[0] + x, low[1] + y, low[2] + z), (high[0] + x, high[1] + y, high[2] + z))
                  for low, high in self._boxes]
         return Solid(*boxes)
@@ -106,7 +106,7 @@ class Solid:
         """Mirrored at the plane with this coordinate."""
         index = axis_index(axis)
         check_integers(at)
-        check_bounds(mirrored_lines(self._lines, index, at))
+        check_bounds(mirrored_lines(self.coordinates, index, at))
         boxes = [(replaced(low, index, 2 * at - high[index]), replaced(high, index, 2 * at - low[index]))
                  for low, high in self._boxes]
         return Solid(*boxes)

@@ -112,3 +112,26 @@ def surface_of(marked, low, high):
     cells = {cell for cell in cells_of([((low,) * 3, (high,) * 3)]) if cell in solid}
     return Surface(cells, {(cell, side): marked.origin_of(cell, side) for cell in cells for side in SIDES
                            if beside(cell, side) not in cells})
+
+
+def moved_cells(cells, side, many):
+    """The cells, moved to a side by so many units."""
+    return {tuple(number + many * step for number, step in zip(cell, STEPS[side])) for cell in cells}
+
+
+def points_of(cells):
+    """All points of cells with integer coordinates."""
+    return {(x + i, y + j, z + k) for x, y, z in cells for i in (0, 1) for j in (0, 1) for k in (0, 1)}
+
+
+def way_of(cells, other, side, far=40):
+    """By how many units other can be moved to the side past cells, None if it leaves."""
+    for many in range(1, far):
+        if moved_cells(other, side, many) & cells:
+            return many - 1
+    return None
+
+
+def random_cells(source, many, size):
+    """The cells of some random boxes."""
+    return cells_of([random_box(source, 0, size) for _ in range(many)])
