@@ -10,15 +10,15 @@ from solidnames.tools import copies_of, faces_picked, keep_tool, mirror_tool, pr
 class Record:
     """What a feature gave: told is its status, before and behind the marked solids around it.
 
-    The tool is that of an Add or a Cut, otherwise None.
+    The tools are those with which it changed the solid, in their order.
     """
 
-    def __init__(self, feature, told, before, behind, tool):
+    def __init__(self, feature, told, before, behind, tools):
         self.feature = feature
         self.told = told
         self.before = before
         self.behind = behind
-        self.tool = tool
+        self.tools = tools
 
 
 def records_of(results, entries):
@@ -28,7 +28,7 @@ def records_of(results, entries):
     marked = nothing()
     for feature, on in entries:
         record = record_of(feature, on, marked, results, sources)
-        if record.tool is not None:
+        if feature.kind in ("add", "cut") and record.tools:
             sources[feature.name] = record
         records.append(record)
         marked = record.behind
@@ -38,55 +38,42 @@ def records_of(results, entries):
 def record_of(feature, on, ahead, results, sources):
     """The Record of a feature; sources has those of the Adds and Cuts ahead that are well."""
     if not on:
-        return Record(feature, ("off",), ahead, ahead, None)
+        return Record(feature, ("off",), ahead, ahead, ())
     try:
-        behind, tool = outcome_of(feature, ahead, results, sources)
+        word, tools = work_of(feature, ahead, results, sources)
+        behind = ahead
+        for tool in tools:
+            behind = operated(behind, tool.marked, word)
     except Failure as failure:
-        return Record(feature, ("failed", failure.word, failure.detail), ahead, ahead, None)
+        return Record(feature, ("failed", failure.word, failure.detail), ahead, ahead, ())
     except OutOfBounds:
-        return Record(feature, ("failed", "range", None), ahead, ahead, None)
+        return Record(feature, ("failed", "range", None), ahead, ahead, ())
     except TooMany:
-        return Record(feature, ("failed", "lines", None), ahead, ahead, None)
-    return Record(feature, ("ok",), ahead, behind, tool)
+        return Record(feature, ("failed", "lines", None), ahead, ahead, ())
+    return Record(feature, ("ok",), ahead, behind, tuple(tools))
 
 
-def outcome_of(feature, ahead, results, sources):
-    """The marked solid behind a feature, and its tool if it may be a source."""
+def work_of(feature, ahead, results, sources):
+    """What a feature does with the solid, a word, and the list of the tools with which it does it."""
     if feature.source is not None:
-        return behind_source(feature, ahead, results, sources), None
+        if feature.source not in sources:
+            raise Failure("source", feature.source)
+        source = sources[feature.source]
+        if feature.kind == "copy":
+            return source.feature.kind, copies_of(feature, source.tools[0], results)
+        return source.feature.kind, [mirror_tool(feature, source.tools[0], results)]
     if feature.kind == "keep":
-        return ahead.met(keep_tool(feature, results)), None
+        return "keep", [keep_tool(feature, results)]
     if feature.kind == "push":
-        return pushed(feature, ahead, results), None
-    tool = prism_tool(feature, Skin(ahead) if feature.picks else None, results)
-    return operated(ahead, tool, feature.kind), tool
+        value = values_of(feature.formulas, results)[0]
+        skin = Skin(ahead)
+        index = faces_picked(skin, feature.picks)[0]
+        return "add" if value > 0 else "cut", [push_tool(skin, index, value, feature.name)]
+    return feature.kind, [prism_tool(feature, Skin(ahead) if feature.picks else None, results)]
 
 
-def behind_source(feature, ahead, results, sources):
-    """The marked solid behind a Copy or a Mirror."""
-    if feature.source not in sources:
-        raise Failure("source", feature.source)
-    source = sources[feature.source]
-    if feature.kind == "copy":
-        tools = copies_of(feature, source.tool, results)
-    else:
-        tools = [mirror_tool(feature, source.tool, results)]
-    marked = ahead
-    for tool in tools:
-        marked = operated(marked, tool, source.feature.kind)
-    return marked
-
-
-def pushed(feature, ahead, results):
-    """The marked solid behind a Push."""
-    value = values_of(feature.formulas, results)[0]
-    skin = Skin(ahead)
-    index = faces_picked(skin, feature.picks)[0]
-    if value == 0:
-        return ahead
-    return operated(ahead, push_tool(skin, index, value, feature.name), "add" if value > 0 else "cut")
-
-
-def operated(marked, tool, kind):
-    """The marked solid joined with the tool, or cut by it."""
-    return marked.joined(tool) if kind == "add" else marked.cut(tool)
+def operated(marked, tool, word):
+    """The marked solid joined with the tool, cut by it, or met with it."""
+    if word == "add":
+        return marked.joined(tool)
+    return marked.cut(tool) if word == "cut" else marked.met(tool)

@@ -3,7 +3,7 @@
 from solidnames.errors import NotLinear, ParseError, UnknownName
 from solidnames.grammar import Reader
 from solidnames.operations import evaluated
-from solidnames.slopes import is_linear, slope_and_rest
+from solidnames.slopes import LINEAR, OTHER, dependence_of, slope_and_rest
 
 MOST_CHARACTERS = 100
 
@@ -42,6 +42,10 @@ class Formula:
         missing = self.first_missing([name, *results])
         if missing is not None:
             raise UnknownName(missing)
-        if not is_linear(self._code, name):
+        if self.dependence({name: LINEAR}) == OTHER:
             raise NotLinear(name)
         return slope_and_rest(self._code, name, results)
+
+    def dependence(self, known):
+        """How it depends on a parameter, when known tells how this one and others do."""
+        return dependence_of(self._code, known)

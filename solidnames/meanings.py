@@ -5,12 +5,23 @@ from solidnames.edges import corners_of, edges_of
 
 def meaning_in(skin, pick):
     """What a pick means on a skin."""
+    return meaning_among(skin, items_of(skin, pick[0]), pick)
+
+
+def items_of(skin, kind):
+    """The edges or the corners, those that a pick of this kind may mean; faces are told by the skin itself."""
+    if kind == "face":
+        return []
+    return edges_of(skin) if kind == "edge" else corners_of(skin)
+
+
+def meaning_among(skin, items, pick):
+    """What a pick means on a skin with these edges or corners."""
     if pick[0] == "face":
         found = [skin.names[index] for index in face_candidates(skin, pick)]
-    elif pick[0] == "edge":
-        found = candidates_among(skin, edges_of(skin), (pick[1], pick[2]), pick)
     else:
-        found = candidates_among(skin, corners_of(skin), pick[1], pick)
+        met = (pick[1], pick[2]) if pick[0] == "edge" else pick[1]
+        found = candidates_among(skin, items, met, pick)
     if not found:
         return ("lost",)
     if len(found) > 1:

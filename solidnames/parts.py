@@ -226,6 +226,13 @@ class Part:
         return touched_names(before.outcome.records, state.outcome.records)
 
 
+def part_of(settings, entries):
+    """The Part with these parameters and entries, without steps."""
+    part = Part()
+    part._state = State(settings, entries)
+    return part
+
+
 def check_index(index, many):
     if not is_integer(index) or not 0 <= index < many:
         raise InvalidIndex(index)

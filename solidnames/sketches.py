@@ -12,7 +12,7 @@ MOST_DIMENSIONS = 40
 
 
 class Sketch:
-    """Outlines, tuples of names of sides, and dimensions, tuples (side, other, text)."""
+    """Outlines, tuples of names of sides, and dimensions, tuples (side, other, text), with their Formulas."""
 
     def __init__(self, *outlines, dimensions=()):
         levels = levels_of(outlines)
@@ -23,7 +23,7 @@ class Sketch:
         self.dimensions = tuple(dimensions)
         self.sides = tuple(sorted(levels))
         self.names = tuple(sorted(set([name for formula in formulas for name in formula.names])))
-        self._formulas = formulas
+        self.formulas = tuple(formulas)
         self._freedom = groups_without_zero(self.sides, self.dimensions)
 
     @property
@@ -36,11 +36,11 @@ class Sketch:
 
     def solve(self, results):
         """The status for a dict of results of parameters, ("solved", shape) if all is well."""
-        for formula in self._formulas:
+        for formula in self.formulas:
             missing = formula.first_missing(results)
             if missing is not None:
                 raise UnknownName(missing)
-        values = [formula.evaluate(results) for formula in self._formulas]
+        values = [formula.evaluate(results) for formula in self.formulas]
         for index, (word, number) in enumerate(values):
             if word == "failed":
                 return ("formula", index, number)

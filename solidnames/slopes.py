@@ -3,25 +3,26 @@
 from solidnames.errors import Failed
 from solidnames.operations import combined, result_of, total_of
 
-# How a part of a formula depends on the parameter.
+# How a part of a formula depends on the parameter: not at all, in a linear way, or otherwise.
 FREE = "free"
 LINEAR = "linear"
 OTHER = "other"
 
 
-def is_linear(code, name):
+def dependence_of(code, known):
+    """How a formula depends on a parameter; known is a dict from it and those that read it to how they do."""
     stack = []
     for kind, what in code:
         if kind != "operation":
-            stack.append(LINEAR if (kind, what) == ("parameter", name) else FREE)
+            stack.append(known.get(what, FREE) if kind == "parameter" else FREE)
         elif what != "minus":
             right = stack.pop()
             left = stack.pop()
-            stack.append(dependence(what, left, right))
-    return stack[0] != OTHER
+            stack.append(dependence_of_both(what, left, right))
+    return stack[0]
 
 
-def dependence(sign, left, right):
+def dependence_of_both(sign, left, right):
     if left == FREE and right == FREE:
         return FREE
     if OTHER in (left, right):

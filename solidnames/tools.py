@@ -1,14 +1,22 @@
-"""The tools of features: marked solids that are joined with the part, cut from it or met with it."""
+"""The tools of features: marked solids that are joined with the part, cut from it or met with it, with their marks."""
 
-from solidnames.axes import AXES, axis_index, replaced
+from solidnames.axes import AXES, axis_index, moved_lines, replaced
 from solidnames.errors import OutOfBounds
 from solidnames.failures import Failure
 from solidnames.grids import strides
 from solidnames.limits import MAX_COPIES
-from solidnames.marked import Marked, prefixed
+from solidnames.marked import Marked, nothing, prefixed
 from solidnames.meanings import meaning_in
-from solidnames.planes import prism_between
+from solidnames.planes import direction_indexes, prism_between
 from solidnames.values import is_within
+
+
+class Tool:
+    """A marked solid, and the coordinates on each axis at which it was placed."""
+
+    def __init__(self, marked, marks):
+        self.marked = marked
+        self.marks = marks
 
 
 def values_of(formulas, results):
@@ -59,12 +67,28 @@ def prism_tool(feature, skin, results):
         end = picked[-1][1]
     if not is_within(begin) or not is_within(end):
         raise OutOfBounds()
-    shape = told[1].moved(values[-2], values[-1])
-    if begin == end:
-        # Only what reaches through all has no end of its own.
-        return prism_between(axis, shape, (), [None], f"{name}/side/")
-    caps = [None, f"{name}/start", f"{name}/end"] if begin < end else [None, f"{name}/end", f"{name}/start"]
-    return prism_between(axis, shape, (min(begin, end), max(begin, end)), caps, f"{name}/side/")
+    # Only what reaches through all has no end of its own.
+    ends = () if begin == end else (begin, end)
+    return prism_on(axis, ends, told[1].moved(values[-2], values[-1]), name)
+
+
+def prism_on(axis, ends, shape, name):
+    """The tool over a shape, from the first coordinate to the second one, or without an end."""
+    caps = [None]
+    if ends:
+        words = ("start", "end") if ends[0] < ends[1] else ("end", "start")
+        caps = [None, *[f"{name}/{word}" for word in words]]
+    uprights, levels = [], []
+    for side in shape.positions:
+        low, high = shape.ends(side)
+        if low[0] == high[0]:
+            uprights.append(low[0])
+        else:
+            levels.append(low[1])
+    marks = [ends, ends, ends]
+    first, second = direction_indexes(axis)
+    marks[first], marks[second] = tuple(uprights), tuple(levels)
+    return Tool(prism_between(axis, shape, tuple(sorted(ends)), caps, f"{name}/side/"), tuple(marks))
 
 
 def copies_of(feature, tool, results):
@@ -84,14 +108,18 @@ def copies_of(feature, tool, results):
         for number, step, distance in zip(numbers, steps, values[::2]):
             vector[axis_index(step[0])] += number * distance
         prefix = "/".join([feature.name, *[str(number) for number in numbers]])
-        copies.append(prefixed(tool.moved(*vector), f"{prefix}/"))
+        marked = prefixed(tool.marked.moved(*vector), f"{prefix}/")
+        copies.append(Tool(marked, moved_lines(tool.marks, vector)))
     return copies
 
 
 def mirror_tool(feature, tool, results):
     """The tool of a Mirror."""
     at = values_of(feature.formulas, results)[0]
-    return tool.mirrored(feature.arguments[2], at).within(feature.name)
+    axis = feature.arguments[2]
+    marked = tool.marked.mirrored(axis, at).within(feature.name)
+    index = axis_index(axis)
+    return Tool(marked, replaced(tool.marks, index, tuple([2 * at - number for number in tool.marks[index]])))
 
 
 def keep_tool(feature, results):
@@ -100,15 +128,27 @@ def keep_tool(feature, results):
     at = values_of(feature.formulas, results)[0]
     lines = replaced(((), (), ()), axis_index(axis), (at,))
     squares = replaced(([None, None], [None, None], [None, None]), axis_index(axis), [None, f"{name}/cut"])
-    return Marked(lines, [side == -1, side == 1], squares)
+    return Tool(Marked(lines, [side == -1, side == 1], squares), lines)
 
 
 def push_tool(skin, index, value, name):
-    """The cells on the way of a face that is moved outward by the value, with the origins of a Push of this name."""
+    """The tool of a Push of this name that moves a face outward by the value."""
     axis, at, front = plane_of_face(skin, index)
     to = at + front * value
     if not is_within(to):
         raise OutOfBounds()
+    across = axis_index(axis)
+    if value == 0:
+        return Tool(nothing(), replaced(((), (), ()), across, (at, at)))
+    marked = way_of_face(skin, index, value, name)
+    solid = marked.to_solid()
+    return Tool(marked, replaced(tuple([solid.lines(other) for other in AXES]), across, (at, to)))
+
+
+def way_of_face(skin, index, value, name):
+    """The cells on the way of a face that is moved outward by the value, with the origins of a Push of this name."""
+    axis, at, front = plane_of_face(skin, index)
+    to = at + front * value
     across = axis_index(axis)
     lines = replaced(skin.coordinates, across, (min(at, to), max(at, to)))
     steps = strides(lines)

@@ -282,6 +282,11 @@ class FormTest(unittest.TestCase):
             assigned = {part.attr for part in ast.walk(node) if isinstance(part, ast.Attribute) and isinstance(part.ctx, ast.Store)}
             self.assertFalse(assigned & {part.name for part in node.body if isinstance(part, ast.FunctionDef)}, place)
 
+    def test_methods_and_attributes(self):
+        """No name is that of a method and of an attribute, in any classes."""
+        stored = {node.attr for _, node in nodes(ast.Attribute) if isinstance(node.ctx, ast.Store)}
+        self.assertFalse(stored & own_methods())
+
     def test_iterated_at_once(self):
         for place, node in nodes(ast.Call):
             view = isinstance(node.func, ast.Name) and node.func.id in VIEWS
