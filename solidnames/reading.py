@@ -15,7 +15,7 @@ KINDS = ("add", "cut", "copy", "mirror", "push", "keep")
 
 def read_feature(text):
     """The feature with this text."""
-    if not isinstance(text, str) or text == "":
+    if not isinstance(text, str):
         raise ParseError(0)
     reader = LineReader(text.split("\n"))
     feature, _ = reader.read_entry([], False)

@@ -98,7 +98,7 @@ class View:
 
 def face_named(skin, name):
     """The index of the face with this name, None for any other value."""
-    if not isinstance(name, tuple) or has_bool(name):
+    if has_bool(name):
         return None
     found = [index for index, other in enumerate(skin.names) if other == name]
     return found[0] if found else None
@@ -106,7 +106,7 @@ def face_named(skin, name):
 
 def edge_named(skin, name):
     """The Edge with this name, None for any other value."""
-    if not isinstance(name, tuple) or has_bool(name):
+    if has_bool(name):
         return None
     found = [edge for edge in edges_of(skin) if edge.name == name]
     return found[0] if found else None
